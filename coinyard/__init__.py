@@ -1,0 +1,1 @@
+"""Coinyard: sums that coins make, and sums they never make."""

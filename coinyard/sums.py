@@ -37,13 +37,17 @@ def least_sums(purse):
     return least
 
 
+def is_reached(least, number):
+    start = least[number % len(least)]
+    return start is not None and number >= start
+
+
 def makes(purse, number):
     # The purse is looked at before the number, since BadPurse goes ahead of BadSum.
     least = least_sums(purse)
     if not is_sum(number):
         raise BadSum("a sum is a whole number from 0 on")
-    start = least[number % len(least)]
-    return start is not None and number >= start
+    return is_reached(least, number)
 
 
 def same_sums(one, other):

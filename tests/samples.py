@@ -45,6 +45,8 @@ NOT_SUMS = [
     "", "0", "5", b"5", (), (5,), [], [5], {}, {5: 5}, {5}, range(5), object(), Touchy(), int, Fraction(5), Decimal(5),
 ]
 
+NOT_PAID = NOT_SUMS + [401, 402, 800, 10 ** 5000]
+
 EDGE_PURSES = [
     (1,), (2,), (7,), (400,), (1, 400), (399, 400), (2, 400), (200, 400), (3, 399), (398, 400),
     tuple(range(1, 41)), tuple(range(361, 401)), tuple(range(10, 401, 10)), tuple(range(2, 81, 2)),
@@ -96,3 +98,36 @@ def needless_the_long_way(purse):
         if made_up_to(others, coin)[coin]:
             found.append(coin)
     return found
+
+
+def gaps_the_long_way(purse):
+    # Beyond the bound every sum is made, if the divisor is 1.
+    made = made_up_to(purse, purse[0] * purse[-1])
+    return [number for number, is_made in enumerate(made) if not is_made]
+
+
+def fewest_the_long_way(purse, bound):
+    """For each sum up to the bound the fewest coins that make it, or None."""
+    found = [None] * (bound + 1)
+    found[0] = 0
+    reached, many = [0], 0
+    while reached:
+        many += 1
+        reached = sorted({number + coin for number in reached for coin in purse if number + coin <= bound})
+        reached = [number for number in reached if found[number] is None]
+        for number in reached:
+            found[number] = many
+    return found
+
+
+def by_greatest_the_long_way(purse, number):
+    taken = [0] * len(purse)
+    while any(coin <= number for coin in purse):
+        coin = max(coin for coin in purse if coin <= number)
+        taken[purse.index(coin)] += 1
+        number -= coin
+    return tuple(taken) if number == 0 else None
+
+
+def value_of(purse, way):
+    return sum(coin * times for coin, times in zip(purse, way, strict=True))

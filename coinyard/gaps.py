@@ -5,10 +5,14 @@ from coinyard.purses import divisor_of
 from coinyard.sums import is_reached, least_sums
 
 
-def least_sums_of_every_rest(purse):
+def check_gaps_end(purse):
     # The purse itself is looked at by divisor_of, since BadPurse goes ahead of Endless.
     if divisor_of(purse) != 1:
         raise Endless("the divisor is not 1, so the gaps have no end")
+
+
+def least_sums_of_every_rest(purse):
+    check_gaps_end(purse)
     return least_sums(purse)
 
 

@@ -1,6 +1,6 @@
 """Purses: what is one, its divisor, its needless coins, its least purse."""
 
-from coinyard.errors import BadPurse
+from coinyard.errors import BadPurse, TooBig
 
 MOST_COINS = 40
 GREATEST_COIN = 400
@@ -49,19 +49,30 @@ def add_coin(made, coin):
             made[number] = True
 
 
-def needless(purse):
-    checked(purse)
-    made = [True] + [False] * purse[-1]
+def needed_of(coins):
+    """Of rising coins, however many and great, those that the others don't make."""
+    made = [True] + [False] * coins[-1]
     found = []
-    for coin in purse:
-        # Only lesser coins can come to a coin, and the purse rises: all of them are in by now.
-        if made[coin]:
+    for coin in coins:
+        # Only lesser coins can come to a coin, and the coins rise: all of them are in by now.
+        if not made[coin]:
             found.append(coin)
-        else:
             add_coin(made, coin)
     return found
 
 
+def needless(purse):
+    needed = needed_of(checked(purse))
+    return [coin for coin in purse if coin not in needed]
+
+
 def least_purse(purse):
-    left_out = needless(purse)
-    return tuple([coin for coin in purse if coin not in left_out])
+    return tuple(needed_of(checked(purse)))
+
+
+def least_purse_of(coins):
+    """The least purse of coins in any order, however many and great, where that is a purse."""
+    needed = needed_of(sorted(coins))
+    if len(needed) > MOST_COINS or needed[-1] > GREATEST_COIN:
+        raise TooBig(f"the least purse has more than {MOST_COINS} coins or one beyond {GREATEST_COIN}")
+    return tuple(needed)

@@ -28,13 +28,18 @@ def add_coin_to_least(least, coin):
             rest = add_once(least, rest, coin)
 
 
-def least_sums(purse):
-    checked(purse)
-    least = [None] * purse[0]
+def least_sums_by(number, coins):
+    """For each rest by the number, the least sum that the coins make and that leaves it, or None."""
+    least = [None] * number
     least[0] = 0
-    for coin in purse[1:]:
+    for coin in coins:
         add_coin_to_least(least, coin)
     return least
+
+
+def least_sums(purse):
+    checked(purse)
+    return least_sums_by(purse[0], purse[1:])
 
 
 def is_reached(least, number):

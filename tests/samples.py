@@ -4,6 +4,8 @@ from decimal import Decimal
 from fractions import Fraction
 from itertools import combinations
 
+from coinyard.errors import CoinError
+
 
 class Touchy:
     """A thing that can be neither shown, compared, counted nor walked."""
@@ -52,6 +54,14 @@ EDGE_PURSES = [
     tuple(range(1, 41)), tuple(range(361, 401)), tuple(range(10, 401, 10)), tuple(range(2, 81, 2)),
     tuple(range(40, 80)), tuple(range(322, 401, 2)),
 ]
+
+
+def answer(function, *handed):
+    """What a function tells, or the name of its refusal."""
+    try:
+        return function(*handed)
+    except CoinError as refusal:
+        return type(refusal).__name__
 
 
 def small_purses(greatest):
@@ -131,3 +141,32 @@ def by_greatest_the_long_way(purse, number):
 
 def value_of(purse, way):
     return sum(coin * times for coin, times in zip(purse, way, strict=True))
+
+
+def greatest_gap_the_long_way(purse):
+    return max(gaps_the_long_way(purse), default=0)
+
+
+def coins_of_sums(made):
+    """Of a list of True and False, where sums stay sums if put together: those above 0 that are no
+    two lesser ones together."""
+    bits = int("".join(str(int(is_made)) for is_made in reversed(made[1:])) + "0", 2)
+    found = []
+    left = bits
+    while left:
+        lowest = left & -left
+        found.append(lowest.bit_length() - 1)
+        left &= ~lowest & ~(bits << found[-1])
+    return found
+
+
+def told_of_sums(made):
+    """The least purse that makes these sums, or TooBig; the list goes on as far as a coin may be needed."""
+    coins = coins_of_sums(made)
+    return "TooBig" if len(coins) > 40 or coins[-1] > 400 else tuple(coins)
+
+
+def far_enough(greatest):
+    # From the one sum behind the greatest gap on, all are made; so each sum from twice that on is that
+    # one and another, or two lesser ones.
+    return 2 * (greatest + 1) + 1
